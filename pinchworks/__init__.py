@@ -1,0 +1,1 @@
+"""Pinchworks: heat passed on between streams, with exact least costs and certificates."""

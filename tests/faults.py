@@ -1,0 +1,155 @@
+"""Values that are not allowed, with the errors that the document names for them."""
+
+from pinchworks import errors
+
+JUNK = [
+    None, True, False, 0, 1, -1, 2, 5, 100, -7, 10 ** 30, -10 ** 30, "", "a", "10", "None", "stream 1 2 3",
+    (), (0,), (1,), (None,), (True,), (False, True), (1, True), (True, 1), (0, False), (5, None), ("a", "b"),
+    (1, 2), (0, 1), (1, 2, 3), (1, 2, 3, 4), (1, 2, 3, 4, 5), (0, 1, 0, 1, True), ((),), ((), ()), ((), (), ()),
+    ((), (), 0), ((1, 2),), ([1, 2],), ({},), ({0: 1},), (((),),), ((None, None),), ((0, True), (1, False)),
+    ((0, False),), ((0, 1),), ((True, False),), (([],), ((),), {}), ((0, 1, 2),), ((0, 1, True),),
+    ((0, 1, 0, 1, 1),), ((0, 0, 1, 0, "5"),), ((0, 0, 1, 0, (5,)),), (None, None), (None, None, None),
+    [], [0], [None], [0, 1], [(0, 1)], [(0, False)], [(180, 60, 2)], [[], [], 0], [()],
+    {}, {0: 1}, {"a": 1}, {0: (0, 1)}, {"streams": ()}, {(): ()}, ((0, []), {}), ([0, False],), (0, [1]), (0, {1: 2}),
+]
+
+STREAM = (180, 60, 2)
+BOX = (100, -40)
+
+BAD_STREAMS = [
+    None, True, 0, "abc", (), (180, 60), (180, 60, 2, 2), [180, 60, 2], {0: 180, 1: 60, 2: 2},
+    (180, 180, 2), (1001, 60, 2), (-1, 60, 2), (180, 1001, 2), (180, -1, 2), (180, 60, 0), (180, 60, 101),
+    (180, 60, -2), (True, 60, 2), (180, False, 2), (180, 60, True), ("180", 60, 2), (180, None, 2),
+    (180, 60, (2,)), ((180, 60), 2), (180, 60, [2]), (180, 60, {}), (1, True, 1), (False, True, 1),
+]
+
+BAD_BOXES = [
+    None, False, 5, "ab", (), (100,), (100, -40, 1), [100, -40], {100: -40}, (100, 0), (100, 10001), (100, -10001),
+    (-1, 5), (1001, 5), (True, 5), (100, True), (100, False), ("100", 5), (100, "5"), (None, 5), (100, (5,)),
+    ((100, 5),), ([100], 5),
+]
+
+BAD_GAPS = [None, True, False, -1, 101, 10 ** 30, "10", "", (), (10,), [10], {}, {10: 10}]
+
+
+def problem_faults():
+    """Return the pairs (value, error) of values that are no problem."""
+    found = []
+    for value in JUNK:
+        if not (isinstance(value, tuple) and len(value) == 3):
+            found.append((value, errors.BadProblem("no triple")))
+    found.append((((), (), 10), errors.BadProblem("empty")))
+    found.append((((STREAM,), (BOX,)), errors.BadProblem("no triple")))
+    found.append((((STREAM,), (BOX,), 10, 10), errors.BadProblem("no triple")))
+    found.append(([(STREAM,), (BOX,), 10], errors.BadProblem("no triple")))
+    for value in [None, True, 0, "ab", [], [STREAM], {0: STREAM}, (STREAM,) * 7, (None,) * 7]:
+        found.append(((value, (BOX,), 10), errors.BadStreams(None)))
+        found.append(((value, None, None), errors.BadStreams(None)))
+    for value in BAD_STREAMS:
+        found.append((((value,), (), 10), errors.BadStreams(0)))
+        found.append((((STREAM, (20, 100, 3), value, value), (), 10), errors.BadStreams(2)))
+        found.append((((STREAM,) * 5 + (value,), (None,), True), errors.BadStreams(5)))
+    for value in [None, False, 1, "", [], [BOX], {}, (BOX,) * 5, (None,) * 5]:
+        found.append((((STREAM,), value, 10), errors.BadBoxes(None)))
+        found.append((((), value, -1), errors.BadBoxes(None)))
+    for value in BAD_BOXES:
+        found.append((((), (value,), 10), errors.BadBoxes(0)))
+        found.append((((STREAM,), (BOX, BOX, BOX, value), None), errors.BadBoxes(3)))
+        found.append((((STREAM,), (BOX, value, value), 10), errors.BadBoxes(1)))
+    for value in BAD_GAPS:
+        found.append((((STREAM,), (BOX,), value), errors.BadGap("no gap")))
+        found.append((((), (), value), errors.BadGap("told ahead of an empty problem")))
+    return found
+
+
+BAD_LEVELS = [value for value in JUNK if not isinstance(value, int) or isinstance(value, bool)]
+
+
+def supply_faults():
+    """Return the pairs (value, error) of values that are no supplies."""
+    found = []
+    for value in [None, True, 0, "ab", (), [], [(200, 5)], {}, {200: 5}, ((200, 5),) * 6, (None,) * 6]:
+        found.append((value, errors.BadSupplies(None)))
+    for value in [
+        None, False, 7, "ab", (), (200,), (200, 5, 1), [200, 5], {200: 5}, (-1, 5), (1001, 5), (200, -1), (200, 1001),
+        (True, 5), (200, True), (200, False), ("200", 5), (200, None), (200, (5,)), ((200, 5),), ([], {}),
+    ]:
+        found.append(((value,), errors.BadSupplies(0)))
+        found.append((((200, 5), value, value), errors.BadSupplies(1)))
+        found.append((((200, 5),) * 4 + (value,), errors.BadSupplies(4)))
+    return found
+
+
+def barred_faults():
+    """Return the pairs (value, error) of values that cannot be barred in the problem of `BARRABLE`."""
+    found = []
+    for value in [None, True, False, 0, 5, "", "ab", [], [(0, 1)], {}, {(0, 1): True}]:
+        found.append((value, errors.BadBarred(None)))
+    for value in [
+        None, True, 0, "ab", (), (0,), (0, 1, 1), [0, 1], {0: 1}, (1, 0), (0, 0), (1, 1), (0, 3), (2, 1), (-1, 1),
+        (0, -1), (0, 4), (4, 1), (True, 1), (False, 1), (0, True), ("0", "1"), (None, 1), (0, (1,)), ((0, 1),),
+    ]:
+        found.append(((value,), errors.BadBarred(0)))
+        found.append((((0, 1), value), errors.BadBarred(1)))
+        found.append((((0, 1), (0, 2), value, value), errors.BadBarred(2)))
+    found.append((((0, 1), (0, 1)), errors.BadBarred(1)))
+    found.append((((0, 2), (0, 1)), errors.BadBarred(1)))
+    found.append((((0, 1), (3, 1), (0, 2)), errors.BadBarred(2)))
+    return found
+
+
+# Givers are 0 and 3, takers 1 and 2.
+BARRABLE = (((180, 60, 2), (20, 100, 3)), ((100, -40), (150, 30)), 10)
+
+LOADS_FAULTS = [
+    None, True, False, 0, 5, "", "5", "12345", (), (1,) * 6, [5, 3], [8], {8: 8}, {}, (0, 8), (-8,), (10001,),
+    (True,), (8, True), (False,), (None,), ("8",), ((8,),), ([8],), ({},), (5, 3, None),
+]
+
+# The problem in which these are no networks, with a hot, a cold and another hot stream.
+NETWORKED = (((180, 60, 2), (20, 100, 3), (150, 50, 1)), (), 10)
+
+
+def network_faults():
+    """Return the pairs (value, error) of values that are no network for the problem of `NETWORKED`."""
+    found = []
+    for value in [None, True, False, 0, 5, "", "ab", [], [(0, 1, 60)], {}, {0: 1}, ((0, 1, 60),) * 13, (None,) * 13]:
+        found.append((value, errors.BadNetwork(None)))
+    for value in [
+        None, True, 0, "abc", (), (0, 1), (0, 1, 60, 1), [0, 1, 60], {0: 1}, (-1, -1, 60), (1, 0, 60), (0, 0, 60),
+        (1, 1, 60), (0, 2, 60), (3, 1, 60), (0, 3, 60), (-2, 1, 60), (0, -2, 60), (0, 1, 0), (0, 1, -60),
+        (0, 1, 100001), (False, 1, 60), (0, True, 60), (0, 1, True), ("0", 1, 60), (0, None, 60), (0, 1, "60"),
+        (0, 1, (60,)), ((0, 1), 60), (None, 1, 60), ([0], {}, ()), (-1, True, 60),
+    ]:
+        found.append(((value,), errors.BadNetwork(0)))
+        found.append((((0, 1, 60), value, value), errors.BadNetwork(1)))
+        found.append((((0, 1, 60),) * 11 + (value,), errors.BadNetwork(11)))
+    return found
+
+
+FIELDS = ("index", "line", "place", "most")
+
+
+class Faults:
+    """Checks for test cases of `unittest`."""
+
+    def assert_fault(self, error, function, *arguments):
+        """Check that a call raises just this error, with these fields, and leaves its arguments alone."""
+        before = repr(arguments)
+        with self.assertRaises(errors.HeatError, msg=before) as caught:
+            function(*arguments)
+        raised = caught.exception
+        self.assertIs(type(raised), type(error), before)
+        for field in FIELDS:
+            self.assertEqual(hasattr(raised, field), hasattr(error, field), before)
+            value = getattr(raised, field, None)
+            self.assertEqual(value, getattr(error, field, None), before)
+            self.assertIs(type(value), type(getattr(error, field, None)), before)
+        self.assertEqual(before, repr(arguments))
+
+    def assert_truths(self, function, *arguments, but=()):
+        """Check that no junk as the last argument is shown, but what is listed, and that answers are booleans."""
+        for value in JUNK:
+            shown = function(*arguments, value)
+            expected = any(repr(value) == repr(one) for one in but)
+            self.assertIs(shown, expected, repr((arguments, value)))

@@ -1,0 +1,70 @@
+"""The examples of the document's interface, word for word."""
+
+import unittest
+
+from pinchworks import errors
+
+EXAMPLES = r"""
+>>> from pinchworks.cascades import cascade, given_above, heating_paper, least_outside, levels, pinches
+>>> problem = (((180, 60, 2), (20, 100, 3)), ((100, -40),), 10)
+>>> [levels(problem), given_above(problem, 60), least_outside(problem), cascade(problem), pinches(problem)]
+[(170, 100, 50, 20), (220, 160), (40, 0), ((170, 40, 40), (100, 180, 140), (50, 90, 90), (20, 0, 0)), (20,)]
+
+>>> from pinchworks.problemtext import read_problem, write_problem
+>>> [write_problem((((180, 60, 2),), ((100, -40),), 10)), read_problem(' box 5 -3\n\ngap  0 ')]
+['stream 180 60 2\nbox 100 -40\ngap 10', ((), ((5, -3),), 0)]
+
+>>> from pinchworks.problemtext import read_problem
+>>> read_problem('stream 20 20 3\ngap 0')
+raises InvalidText(1, 3)
+
+>>> from pinchworks.supplies import cheapest_supply
+>>> problem = (((100, 50, 1), (20, 60, 1)), (), 10)
+>>> cheapest_supply(problem, ((200, 5),), ((0, 1),))
+(10, (0,), (10,))
+
+>>> from pinchworks.barring import barred_outside, matches
+>>> problem = (((180, 60, 2), (20, 100, 3)), ((100, -40), (150, 30)), 10)
+>>> [barred_outside(problem, ((0, 1),)), matches((((100, 50, 1), (20, 60, 1)), (), 10), ())]
+[(210, 200), ((0, 1, 40),)]
+
+>>> from pinchworks.units import balanced_groups, fewest_matches, fewest_units, match_set
+>>> problem = (((100, 50, 1), (20, 60, 1)), (), 10)
+>>> [fewest_units((5, 3), (3, 5)), balanced_groups((5, 3), (3, 5)), fewest_matches(problem), match_set(problem)]
+[2, (((0,), (1,)), ((1,), (0,))), 2, ((0, -1), (0, 1))]
+
+>>> from pinchworks.networks import flaw, outside_of, temperatures
+>>> problem = (((180, 60, 2), (20, 100, 3)), (), 10)
+>>> [temperatures(problem, ((0, 1, 60),)), flaw(problem, ((0, 1, 240),)), flaw(problem, ((0, 1, 60),)), outside_of(problem, ((-1, 1, 7), (0, -1, 5)))]
+[(((180, 1), (150, 1), (20, 1), (40, 1)),), None, ('goal', 0), (7, 5)]
+
+>>> from pinchworks.rings import moved, ring_count, ringless
+>>> problem = (((180, 60, 2), (20, 100, 3)), (), 10)
+>>> network = ((0, 1, 100), (0, 1, 40))
+>>> [ring_count(problem, network), moved(problem, network, (0, 1), 40), ringless(problem, network)]
+[1, ((0, 1, 140),), ((0, 1, 140),)]
+"""
+
+
+class TestExamples(unittest.TestCase):
+    def test_all(self):
+        for example in EXAMPLES.strip().split("\n\n"):
+            *steps, expected = example.split("\n")
+            names = {}
+            for step in steps[:-1]:
+                exec(step.removeprefix(">>> "), names)
+            last = steps[-1].removeprefix(">>> ")
+            with self.subTest(last):
+                if expected.startswith("raises "):
+                    self.check_error(last, names, eval(expected.removeprefix("raises "), vars(errors)))
+                else:
+                    self.assertEqual(repr(eval(last, names)), expected)
+
+    def check_error(self, step, names, expected):
+        with self.assertRaises(type(expected)) as caught:
+            eval(step, names)
+        self.assertEqual(vars(caught.exception), vars(expected))
+
+
+if __name__ == "__main__":
+    unittest.main()
