@@ -3,7 +3,7 @@
 from pinchworks.bodies import bodies_of, heat_above, levels_of, whole_heat
 from pinchworks.checks import check_problem, is_integer, is_row, is_threshold, is_within
 from pinchworks.errors import BadBarred
-from pinchworks.places import heat_at_place, pass_on, spots_of
+from pinchworks.places import heat_at_place, heats_of, pass_on, spots_of
 
 
 def barred_outside(problem, barred):
@@ -18,7 +18,7 @@ def barred_paper(problem, barred):
     bodies = checked_bodies(problem, barred)
     descending = levels_of(bodies)
     given, taken = spots_of(bodies, descending)
-    flow, _ = pass_on(given, taken, barred)
+    flow, _ = pass_on(given, taken, barred, {})
     if flow.lacking == 0:
         return None
     # The spots of takers to which no more heat can come lack all of the heating,
@@ -49,13 +49,8 @@ def passing(problem, barred):
     """Return the tuples (giver, its place, taker, its place, heat) of heats that are passed on."""
     bodies = checked_bodies(problem, barred)
     given, taken = spots_of(bodies, levels_of(bodies))
-    flow, arcs = pass_on(given, taken, barred)
-    heats = []
-    for (tail, head), arc in arcs.items():
-        heat = flow.carried(arc)
-        if heat > 0:
-            heats.append((given[tail][0], given[tail][1], taken[head][0], taken[head][1], heat))
-    return tuple(sorted(heats))
+    flow, arcs = pass_on(given, taken, barred, {})
+    return heats_of(flow, arcs, given, taken)
 
 
 def shows_passing(problem, barred, value):
@@ -108,7 +103,7 @@ def takers_of(bodies):
 
 def heating_with(bodies, barred):
     given, taken = spots_of(bodies, levels_of(bodies))
-    flow, _ = pass_on(given, taken, barred)
+    flow, _ = pass_on(given, taken, barred, {})
     return flow.lacking
 
 

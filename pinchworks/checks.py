@@ -1,6 +1,6 @@
 """Which values are allowed where several modules take them."""
 
-from pinchworks.errors import BadBoxes, BadGap, BadLevel, BadProblem, BadStreams, HasBoxes
+from pinchworks.errors import BadBoxes, BadFlag, BadGap, BadLevel, BadProblem, BadStreams, HasBoxes, HeatError
 
 MOST_STREAMS = 6
 MOST_BOXES = 4
@@ -76,6 +76,14 @@ def check_problem(problem):
         raise BadProblem("a problem has at least one stream or box")
 
 
+def is_problem(value):
+    try:
+        check_problem(value)
+    except HeatError:
+        return False
+    return True
+
+
 def check_boxless(problem):
     check_problem(problem)
     if problem[1]:
@@ -85,3 +93,8 @@ def check_boxless(problem):
 def check_level(level):
     if not is_integer(level):
         raise BadLevel("a level is an integer")
+
+
+def check_flag(flag):
+    if not isinstance(flag, bool):
+        raise BadFlag("only True and False are allowed here")

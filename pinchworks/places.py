@@ -30,11 +30,12 @@ def spots_of(bodies, descending):
     return (given, taken)
 
 
-def pass_on(given, taken, barred):
-    """Return a flow with as much heat passed on as goes, and its arcs as pairs of spots.
+def pass_on(given, taken, barred, prices):
+    """Return a flow with as much heat passed on as goes, at the least cost, and its arcs as pairs of spots.
 
     The nodes are the spots of givers and then those of takers. `barred` holds
-    the pairs (giver, taker) of numbers between which nothing is passed on.
+    the pairs (giver, taker) of numbers between which nothing is passed on,
+    `prices` the prices of pairs, where these are not 0.
     """
     flow = Flow(len(given) + len(taken))
     for node, spot in enumerate(given):
@@ -46,6 +47,17 @@ def pass_on(given, taken, barred):
         for head, (taker, to_place, _) in enumerate(taken):
             if from_place <= to_place and (giver, taker) not in barred:
                 # One more than can ever flow: only what is given and wanted limits the heat.
-                arcs[(tail, head)] = flow.link(tail, len(given) + head, heat + 1, 0)
+                price = prices.get((giver, taker), 0)
+                arcs[(tail, head)] = flow.link(tail, len(given) + head, heat + 1, price)
     flow.fill()
     return (flow, arcs)
+
+
+def heats_of(flow, arcs, given, taken):
+    """Return the ascending tuple of (giver, its place, taker, its place, heat) that a flow passes on."""
+    heats = []
+    for (tail, head), arc in arcs.items():
+        heat = flow.carried(arc)
+        if heat > 0:
+            heats.append((given[tail][0], given[tail][1], taken[head][0], taken[head][1], heat))
+    return tuple(sorted(heats))

@@ -1,6 +1,7 @@
 """Rings of exchangers in a network, and how loads are moved around them."""
 
-from pinchworks.checks import is_row, is_within
+from pinchworks.chains import is_index_row, joins_by_turns, least_taken, shifted, ways_from
+from pinchworks.checks import is_within
 from pinchworks.errors import BadLoad, BadRing
 from pinchworks.networks import COLD, HOT, LOAD, check_network
 
@@ -46,26 +47,6 @@ def ringless(problem, network):
     return rest
 
 
-def way_back(network, index):
-    """Return the indexes of earlier exchangers that lead from the cold end of an exchanger to its hot end.
-
-    It is a shortest such way, so that it comes to no end twice; None if there is none.
-    """
-    hot, cold, _ = network[index]
-    ways = {(COLD, cold): ()}
-    queue = [(COLD, cold)]
-    at = 0
-    while at < len(queue):
-        side, number = queue[at]
-        at += 1
-        for earlier in range(index):
-            other = (1 - side, network[earlier][1 - side])
-            if network[earlier][side] == number and other not in ways:
-                ways[other] = ways[(side, number)] + (earlier,)
-                queue.append(other)
-    return ways.get((HOT, hot))
-
-
 def first_ring(network):
     for index in range(len(network)):
         back = way_back(network, index)
@@ -74,33 +55,18 @@ def first_ring(network):
     return None
 
 
+def way_back(network, index):
+    """Return the indexes of earlier exchangers that lead from the cold end of an exchanger to its hot end, or None."""
+    hot, cold, _ = network[index]
+    return ways_from((COLD, cold), network, list(range(index))).get((HOT, hot))
+
+
 def is_ring(network, value):
-    last = len(network) - 1
-    if not is_row(value, 2, len(network)) or not all([is_within(index, 0, last) for index in value]):
+    if not is_index_row(network, value, 2) or len(value) & 1:
         return False
-    if len(value) & 1 or len(set(value)) < len(value):
-        return False
-    shared = []
-    for at, index in enumerate(value):
-        side = HOT if at & 1 else COLD
-        following = value[(at + 1) % len(value)]
-        if network[index][side] != network[following][side]:
-            return False
-        shared.append((side, network[index][side]))
-    return len(set(shared)) == len(shared)
-
-
-def least_taken(network, indexes):
-    """Return the greatest load that can be moved around a ring."""
-    return min([network[index][LOAD] for index in indexes[1::2]])
+    return joins_by_turns(network, value + value[:1])
 
 
 def turned(network, indexes, load):
     """Return the network after a load has been moved around a ring, without exchangers that are left empty."""
-    changes = {index: -load if at & 1 else load for at, index in enumerate(indexes)}
-    rest = []
-    for index, (hot, cold, heat) in enumerate(network):
-        left = heat + changes.get(index, 0)
-        if left > 0:
-            rest.append((hot, cold, left))
-    return tuple(rest)
+    return tuple([exchanger for exchanger in shifted(network, indexes, load) if exchanger[LOAD] > 0])

@@ -148,5 +148,5 @@ def joins_all(chosen, givers, takers):
 
 def suffices(chosen, pairs, given, taken):
     """Return whether all heat can be passed on between the chosen pairs alone."""
-    flow, _ = pass_on(given, taken, [pair for pair in pairs if pair not in chosen])
+    flow, _ = pass_on(given, taken, [pair for pair in pairs if pair not in chosen], {})
     return flow.lacking == 0

@@ -127,6 +127,75 @@ def network_faults():
     return found
 
 
+BAD_FLAGS = [value for value in JUNK if not isinstance(value, bool)]
+
+
+def period_faults():
+    """Return the pairs (value, error) of values that are no periods."""
+    good, other = ((STREAM,), (BOX,), 10), ((STREAM,), (BOX,), 11)
+    found = []
+    for value in [None, True, False, 0, 4, "", "ab", (), [], [good], {}, {0: good}, (good,) * 5, (None,) * 5]:
+        found.append((value, errors.BadPeriods(None)))
+    for value, _ in problem_faults():
+        found.append(((value,), errors.BadPeriods(0)))
+        found.append(((good, good, value, other), errors.BadPeriods(2)))
+    for value in JUNK:
+        found.append(((good, good, good, value), errors.BadPeriods(3)))
+    found.append((good, errors.BadPeriods(0)))
+    found.append(((good, other), errors.BadPeriods(1)))
+    found.append(((good, good, good, other), errors.BadPeriods(3)))
+    found.append(((good, other, other, None), errors.BadPeriods(1)))
+    found.append(((None, other, other), errors.BadPeriods(0)))
+    return found
+
+
+def spread_faults():
+    """Return values that are no spreads for the problem of `BARRABLE`: two streams, the rates 2 and 3."""
+    found = [value for value in JUNK if value not in ((0, 1), (1, 2))] + [(True, 1), (1, True), (False, 0), (0, False)]
+    found += [(0, -1), (-1, 0), (2, 0), (0, 3), (0,), (0, 0, 0), (0, 0, 0, 0), [0, 0], (0, "0"), (0, None), (0, (0,))]
+    return found
+
+
+def water_faults():
+    """Return the pairs (value, error) of values that are no water."""
+    good = ((50, 10), (20, 30))
+    found = []
+    for value in JUNK:
+        is_pair = isinstance(value, tuple) and len(value) == 2
+        if not (is_pair and all(isinstance(side, tuple) and 1 <= len(side) <= 4 for side in value)):
+            found.append((value, errors.BadWater(None)))
+        if value != ((1, 2),):
+            is_side = isinstance(value, tuple) and 1 <= len(value) <= 4
+            found.append(((value, value), errors.BadWater(0 if is_side else None)))
+    for side in [None, True, 0, 2, "ab", (), [], list(good), {}, {0: 1}, good * 3, (None,) * 5]:
+        found.append(((side, good), errors.BadWater(None)))
+        found.append(((good, side), errors.BadWater(None)))
+        found.append((((None,), side), errors.BadWater(None)))
+    found += [((good,), errors.BadWater(None)), ((good, good, good), errors.BadWater(None))]
+    found += [([good, good], errors.BadWater(None)), ({0: good, 1: good}, errors.BadWater(None))]
+    for value in [
+        None, True, False, 5, "ab", (), (50,), (50, 10, 1), [50, 10], {50: 10}, (0, 10), (-1, 10), (1001, 10), (50, -1),
+        (50, 1001), (True, 10), (50, True), (50, False), ("50", 10), (50, None), (50, (10,)), ((50, 10),), ([], {}),
+    ]:
+        found.append((((value,), good), errors.BadWater(0)))
+        found.append(((good, (value,)), errors.BadWater(2)))
+        found.append(((good * 2, good + (value, value)), errors.BadWater(6)))
+        found.append((((good[0], value), (value,)), errors.BadWater(1)))
+        found.append(((good * 2, good + (good[0], value)), errors.BadWater(7)))
+    return found
+
+
+def engine_faults():
+    """Return values that are no engines."""
+    found = list(JUNK) + [[300, 250, 50, 10], {300: 250}, (300, 250, 50), (300, 250, 50, 10, 1)]
+    found += [(250, 250, 50, 10), (250, 300, 50, 10), (1001, 250, 50, 10), (300, -1, 50, 10), (300, 250, 50, 0)]
+    found += [(300, 250, 50, 50), (300, 250, 50, 51), (300, 250, 50, -10), (300, 250, 10001, 10), (300, 250, -50, -60)]
+    for at in range(4):
+        for value in (None, True, False, "10", "", (), (10,), [10], {}):
+            found.append((300, 250, 50, 10)[:at] + (value,) + (300, 250, 50, 10)[at + 1:])
+    return found + [(True, False, 50, 10), (1, False, 50, 10), (300, 250, 2, True), (300, 250, 1, 1), (300, 250, 1, 0)]
+
+
 FIELDS = ("index", "line", "place", "most")
 
 

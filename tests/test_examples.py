@@ -43,6 +43,46 @@ raises InvalidText(1, 3)
 >>> network = ((0, 1, 100), (0, 1, 40))
 >>> [ring_count(problem, network), moved(problem, network, (0, 1), 40), ringless(problem, network)]
 [1, ((0, 1, 140),), ((0, 1, 140),)]
+
+>>> from pinchworks.storing import gap_curve, stored_outside
+>>> warm, cold = (((100, 50, 1),), (), 0), (((40, 90, 1),), (), 0)
+>>> [stored_outside((warm, cold), False), stored_outside((cold, warm), False), stored_outside((cold, warm), True), gap_curve(warm, 2)]
+[(0, 0), (50, 50), (0, 0), (0, 0, 0)]
+
+>>> from pinchworks.curves import approach, curve
+>>> problem = (((180, 60, 2), (20, 100, 3)), (), 10)
+>>> [curve(problem, True), approach(problem, 0), curve((problem[0], ((50, 7),), 10), True)]
+[((0, 60), (240, 180)), (40, 1), ((0, 50), (7, 50), (7, 60), (247, 180))]
+
+>>> from pinchworks.paths import least_relief, path, relieved
+>>> problem = (((180, 60, 2), (20, 100, 3)), (), 10)
+>>> network = ((-1, 1, 20), (0, 1, 100), (0, -1, 20))
+>>> [path(problem, network), relieved(problem, network, (0, 1, 2), 30), least_relief(problem, network, (0, 1, 2))]
+[(0, 1, 2), ((-1, 1, 50), (0, 1, 70), (0, -1, 50)), 0]
+
+>>> from pinchworks.pairs import level_block, level_pairs
+>>> problem = (((180, 60, 2), (20, 100, 3)), (), 10)
+>>> [level_pairs(problem, 60, True), level_pairs(problem, 60, False), level_block(problem, 60, False)]
+[((0, 1),), None, (1,)]
+
+>>> from pinchworks.spreads import worst_heating, worst_rates
+>>> problem = (((180, 60, 2), (20, 100, 3)), (), 10)
+>>> [worst_heating(problem, (1, 1)), worst_rates(problem, (1, 1))]
+[200, (1, 4)]
+
+>>> from pinchworks.water import least_fresh, water_plan
+>>> [least_fresh((((50, 0),), ((80, 10),))), water_plan((((5, 7),), ((3, 0),)))]
+[(30, 1), ((((0, 1),),), ((3, 1),))]
+
+>>> from pinchworks.cleaning import cleaned_cost
+>>> [cleaned_cost((((50, 500),), ((50, 10),)), 10, 3, 1), cleaned_cost((((50, 500),), ((50, 10),)), 10, 3, 5)]
+[(50, 1), (147, 1)]
+
+>>> from pinchworks.engines import best_place, engine_effect, placing, pump_effect
+>>> problem = (((180, 60, 2), (20, 100, 3)), ((100, -40), (100, 30)), 10)
+>>> engine = (300, 250, 50, 10)
+>>> [engine_effect(problem, engine), pump_effect(problem, engine), placing(problem, engine), best_place(problem, -5, 0, 30)]
+[(40, 30), (-10, 0), 'between', (0, 15)]
 """
 
 

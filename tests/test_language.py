@@ -43,7 +43,7 @@ BARRED_WORDS = re.compile(
 
 STATEMENTS = (
     ast.Assign, ast.AugAssign, ast.If, ast.While, ast.For, ast.Return, ast.Break, ast.Continue, ast.Pass, ast.Raise,
-    ast.Expr, ast.FunctionDef, ast.ClassDef, ast.ImportFrom,
+    ast.Expr, ast.FunctionDef, ast.ClassDef, ast.ImportFrom, ast.Try,
 )
 
 EXPRESSIONS = (
@@ -168,6 +168,10 @@ class TestCode(unittest.TestCase):
                 self.assertIsInstance(node, EXPRESSIONS, where)
             if isinstance(node, (ast.FunctionDef, ast.ClassDef)):
                 self.assertEqual(node.decorator_list, [], where)
+            if isinstance(node, ast.Try):
+                self.assertEqual(node.finalbody, [], where)
+                self.assertEqual([handler.type.id for handler in node.handlers], ["HeatError"], where)
+                self.assertEqual([handler.name for handler in node.handlers], [None], where)
             if isinstance(node, ast.BinOp):
                 self.assertNotIsInstance(node.op, (ast.Div, ast.MatMult, ast.Pow), where)
             if isinstance(node, ast.Constant):
@@ -236,21 +240,6 @@ class TestCode(unittest.TestCase):
                 if token.type == tokenize.STRING:
                     self.assertNotIn("%", token.string, (path, token.start))
                     self.assertNotRegex(token.string, r"\\[^nt\\'\"]", (path, token.start))
-
-    def test_interface_is_defined_where_it_is_listed(self):
-        listed = {
-            "cascades": "levels pinches given_above least_outside cascade heating_paper shows_heating",
-            "problemtext": "write_problem read_problem",
-            "supplies": "cheapest_supply worth_paper shows_worth",
-            "barring": "barred_outside barred_paper shows_barred passing shows_passing matches",
-            "units": "fewest_units fewest_matches unit_table balanced_groups shows_groups match_set",
-            "networks": "temperatures flaw outside_of",
-            "rings": "ring_count ring shows_ring moved ringless",
-        }
-        for path, tree in trees():
-            defined = {node.name for node in tree.body if isinstance(node, ast.FunctionDef)}
-            self.assertLessEqual(set(listed.get(path.stem, "").split()), defined, path)
-        self.assertLessEqual(set(listed), {path.stem for path in FILES})
 
 
 if __name__ == "__main__":
