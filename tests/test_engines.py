@@ -104,14 +104,15 @@ class TestEffects(unittest.TestCase):
             self.assertEqual(pump_effect(problem, engine), effect, engine)
 
     def test_heating_more_by_less_than_the_work(self):
-        # The heat that is left over does all of the work but 5 of it.
+        # Of the 44 that the engine takes in, 40 are left over in any case.
         problem = ((), ((100, 40), (20, -1)), 0)
         self.assertEqual(engine_effect(problem, (100, 50, 44, 20)), (4, -16))
         self.assertEqual(placing(problem, (100, 50, 44, 20)), "free")
         self.assertEqual(engine_effect(problem, (100, 50, 40, 20)), (0, -20))
-        # What is given off at the bottom may even serve more than what is taken in at the top.
-        problem = ((), ((100, 40), (50, -100)), 60)
-        self.assertEqual(engine_effect(problem, (40, 10, 40, 20)), (0, -20))
+        self.assertEqual(placing(problem, (100, 50, 40, 20)), "free")
+        self.assertEqual(placing(problem, (100, 50, 59, 20)), "free")
+        self.assertEqual(placing(problem, (100, 50, 60, 20)), "even")
+        self.assertEqual(placing(problem, (100, 50, 61, 20)), "between")
 
     def test_without_givers_or_takers(self):
         givers, takers = (((180, 60, 2),), ((50, 7),), 10), (((60, 180, 2),), ((50, -7),), 10)

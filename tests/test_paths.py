@@ -139,10 +139,11 @@ class TestPaths(unittest.TestCase):
         self.assertIs(shows_path(PROBLEM, network, (0, 1, 2, 3, 4)), False)
 
     def test_outside_stands_at_both_ends_only(self):
-        network = ((-1, 1, 5), (-1, 1, 5), (0, 1, 5), (0, -1, 5), (0, -1, 5), (0, 3, 5), (-1, 3, 5), (2, 3, 5), (2, -1, 5))
+        network = ((-1, 1, 5), (-1, 1, 5), (0, 1, 5), (0, -1, 5), (0, -1, 5), (0, 3, 5), (-1, 3, 5), (2, 3, 5), (2, -1, 5),
+                   (2, -1, 5))
         for value in ((0, 2, 3), (1, 2, 4), (6, 5, 3), (6, 7, 8), (0, 2, 5, 7, 8)):
             self.assertIs(shows_path(PROBLEM, network, value), True, value)
-        for value in ((0, 1, 2, 3, 4), (2, 1, 3), (0, 2, 5), (2, 0, 3), (0, 1, 3), (0, 2, 5, 6, 8), (0, 2), (0,), ()):
+        for value in ((0, 1, 2, 3, 4), (0, 1, 6, 5, 3), (0, 2, 3, 8, 9), (2, 1, 3), (0, 2, 5), (2, 0, 3), (0, 1, 3), (0, 2, 5, 6, 8), (0, 2), (0,), ()):
             self.assertIs(shows_path(PROBLEM, network, value), False, value)
 
     def test_empty(self):
@@ -218,15 +219,38 @@ class TestLeastRelief(unittest.TestCase):
     def test_goals_do_not_matter(self):
         self.assertEqual(least_relief(PLAIN, ((-1, 1, 1), (0, 1, 2), (0, -1, 1)), (0, 1, 2)), 0)
 
-    def test_some_differences_fall(self):
-        # More load on the second exchanger of the hot stream leaves less room there.
-        found = set()
-        for problem, network, value in relief_cases(125, 300):
+    def test_long_paths(self):
+        chance = random.Random(125)
+        for _ in range(200):
+            ends = [sorted(chance.sample(range(60), 2)) for _ in range(4)]
+            streams = tuple(
+                (low, high, chance.randint(1, 4)) if at % 2 else (high + 20, low + 20, chance.randint(1, 4))
+                for at, (low, high) in enumerate(ends)
+            )
+            rows = chance.sample(LONG, len(LONG))
+            network = tuple((hot, cold, chance.randint(1, 30)) for hot, cold, _ in rows)
+            value = tuple(rows.index(LONG[index]) for index in LONG_PATH)
+            problem = (streams, (), chance.randint(0, 12))
             loads = reliefs(problem, network, value)
-            most = min(network[index][2] for index in value[1::2])
-            if loads and most - 1 not in loads:
-                found.add(least_relief(problem, network, value) == loads[0])
-        self.assertEqual(found, {True})
+            self.assertEqual(least_relief(problem, network, value), loads[0] if loads else None, (problem, network))
+
+    def test_some_differences_fall(self):
+        # One difference does from the load 11 on, another one up to the load 10, or just up to the load 26.
+        problem = (((58, 30, 2), (15, 35, 1), (56, 24, 4), (30, 41, 4)), (), 2)
+        network = ((0, 3, 39), (2, 3, 16), (2, -1, 9), (-1, 1, 6), (0, 1, 27))
+        self.assertEqual(reliefs(problem, network, (3, 4, 0, 1, 2)), [])
+        self.assertIsNone(least_relief(problem, network, (3, 4, 0, 1, 2)))
+        problem = (((52, 36, 4), (1, 34, 1), (62, 43, 1), (25, 32, 3)), (), 7)
+        network = ((-1, 1, 1), (2, 3, 39), (0, 1, 38), (0, 3, 25), (2, -1, 29))
+        self.assertEqual(reliefs(problem, network, (0, 2, 3, 1, 4)), [26])
+        self.assertEqual(least_relief(problem, network, (0, 2, 3, 1, 4)), 26)
+
+    def test_differences_beside_the_path(self):
+        # The exchanger of 2 and 3 is not changed, and its difference is 5 on both sides.
+        streams = ((100, 50, 1), (20, 60, 1), (100, 90, 1), (85, 95, 1))
+        network = ((-1, 1, 5), (0, 1, 35), (0, -1, 15), (2, 3, 10))
+        for gap, expected in ((4, 0), (5, 0), (6, None)):
+            self.assertEqual(least_relief((streams, (), gap), network, (0, 1, 2)), expected)
 
     def test_largest(self):
         problem = (((1000, 0, 100), (0, 1000, 100)), (), 100)

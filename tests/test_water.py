@@ -256,6 +256,10 @@ class TestShown(unittest.TestCase):
             ((((1, 1),), ((1, 20),), ((-1, 50),)), False),
             ((((1, 1),), ((-1, 20),), ((2, 1),)), False),
             ((((1, 2),), ((0, 1),), ((0, 1),)), False),
+            # The sum of these is the least one too, but the first worth is greater than 1.
+            ((((3, 2),), ((1, 10),), ((0, 1),)), False),
+            ((((2, 1),), ((3, 20),), ((0, 1),)), False),
+            ((((11, 10),), ((3, 50),), ((0, 1),)), False),
         ):
             self.assertIs(shows_water(ONE, paper), expected, paper)
         water = (((50, 0),), ((80, 10),))
