@@ -1,7 +1,7 @@
 """Heat passed on where some givers may not heat some takers: the least heating, its papers, matches."""
 
-from pinchworks.bodies import bodies_of, heat_above, levels_of, whole_heat
-from pinchworks.checks import check_problem, is_integer, is_row, is_threshold, is_within
+from pinchworks.bodies import bodies_of, heat_above, is_body, levels_of, outside_with, whole_heat
+from pinchworks.checks import check_problem, is_integer, is_row, is_threshold
 from pinchworks.errors import BadBarred
 from pinchworks.places import heat_at_place, heats_of, pass_on, spots_of
 
@@ -9,8 +9,7 @@ from pinchworks.places import heat_at_place, heats_of, pass_on, spots_of
 def barred_outside(problem, barred):
     """Return the pair (heating, cooling)."""
     bodies = checked_bodies(problem, barred)
-    heating = heating_with(bodies, barred)
-    return (heating, heating + sum([whole_heat(body) for body in bodies]))
+    return outside_with(heating_with(bodies, barred), bodies)
 
 
 def barred_paper(problem, barred):
@@ -74,11 +73,6 @@ def matches(problem, barred):
     for giver, _, taker, _, heat in passing(problem, barred):
         sums[(giver, taker)] = sums.get((giver, taker), 0) + heat
     return tuple(sorted([(giver, taker, heat) for (giver, taker), heat in sums.items()]))
-
-
-def is_body(number, bodies, gives):
-    """Return whether a value is the number of a giver, or of a taker."""
-    return is_within(number, 0, len(bodies) - 1) and (bodies[number][2] > 0) == gives
 
 
 def is_barred_pair(value, bodies):

@@ -6,6 +6,8 @@ twice, and its amount is its heat. Amounts that are taken in are negative.
 Bodies stand in the order of the numbers of streams and boxes.
 """
 
+from pinchworks.checks import is_within
+
 
 def bodies_of(problem):
     streams, boxes, gap = problem
@@ -28,6 +30,11 @@ def levels_of(bodies):
         found.append(upper)
         found.append(lower)
     return sorted(set(found))[::-1]
+
+
+def is_body(number, bodies, gives):
+    """Return whether a value is the number of a giver, or of a taker."""
+    return is_within(number, 0, len(bodies) - 1) and (bodies[number][2] > 0) == gives
 
 
 def is_box_body(body):
@@ -60,3 +67,23 @@ def heat_between(body, upper, lower):
 def lack_above(bodies, level, is_open):
     """Return the heat that is taken in there less the heat that is given off there."""
     return -sum([heat_above(body, level, is_open) for body in bodies])
+
+
+def edges_of(bodies):
+    """Return the pairs (level, is_open) between which what is lacking rises or falls evenly, from the top down."""
+    found = []
+    for level in levels_of(bodies):
+        found.append((level, True))
+        found.append((level, False))
+    return found
+
+
+def heating_of(bodies):
+    """Return the least heating, 0 without bodies."""
+    # Above the highest level nothing is lacking, so this is never negative.
+    return max([lack_above(bodies, level, is_open) for level, is_open in edges_of(bodies)], default=0)
+
+
+def outside_with(heating, bodies):
+    """Return the pair (heating, the cooling with it)."""
+    return (heating, heating + sum([whole_heat(body) for body in bodies]))

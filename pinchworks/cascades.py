@@ -1,6 +1,6 @@
 """Levels, the least heat from outside, the cascade of heat down the levels, and its papers."""
 
-from pinchworks.bodies import bodies_of, heat_above, lack_above, levels_of, whole_heat
+from pinchworks.bodies import bodies_of, edges_of, heat_above, heating_of, lack_above, levels_of, outside_with
 from pinchworks.checks import check_level, check_problem, is_threshold
 
 
@@ -21,8 +21,7 @@ def least_outside(problem):
     """Return the pair (heating, cooling)."""
     check_problem(problem)
     bodies = bodies_of(problem)
-    heating = heating_of(bodies)
-    return (heating, heating + sum([whole_heat(body) for body in bodies]))
+    return outside_with(heating_of(bodies), bodies)
 
 
 def cascade(problem):
@@ -60,17 +59,3 @@ def shows_heating(problem, value):
 def pinches(problem):
     """Return the levels to which, or from which, no heat flows."""
     return tuple([level for level, before, behind in cascade(problem) if before == 0 or behind == 0])
-
-
-def edges_of(bodies):
-    """Return the pairs (level, is_open) between which what is lacking rises or falls evenly."""
-    found = []
-    for level in levels_of(bodies):
-        found.append((level, True))
-        found.append((level, False))
-    return found
-
-
-def heating_of(bodies):
-    # Above the highest level nothing is lacking, so this is never negative.
-    return max([lack_above(bodies, level, is_open) for level, is_open in edges_of(bodies)])

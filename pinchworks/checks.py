@@ -64,14 +64,18 @@ def check_boxes(boxes):
             raise BadBoxes(index)
 
 
+def check_gap(gap):
+    if not is_within(gap, 0, MOST_GAP):
+        raise BadGap(f"a gap is an integer from 0 to {MOST_GAP}")
+
+
 def check_problem(problem):
     if not is_row(problem, 3, 3):
         raise BadProblem("a problem is a triple of streams, boxes and a gap")
     streams, boxes, gap = problem
     check_streams(streams)
     check_boxes(boxes)
-    if not is_within(gap, 0, MOST_GAP):
-        raise BadGap(f"a gap is an integer from 0 to {MOST_GAP}")
+    check_gap(gap)
     if not streams and not boxes:
         raise BadProblem("a problem has at least one stream or box")
 

@@ -1,7 +1,7 @@
 """Engines, pumps and boxes that are added to a problem, and what they change."""
 
-from pinchworks.bodies import bodies_of
-from pinchworks.cascades import heating_of, least_outside
+from pinchworks.bodies import bodies_of, heating_of
+from pinchworks.cascades import least_outside
 from pinchworks.checks import MOST_BOX_HEAT, MOST_BOXES
 from pinchworks.checks import check_boxes, check_problem, is_integer, is_row, is_temperature, is_within
 from pinchworks.errors import BadEngine, BadLevel, BadLoad, TooMany

@@ -2,7 +2,7 @@
 
 from pinchworks.checks import is_row, is_within
 from pinchworks.errors import BadWater
-from pinchworks.programs import solve
+from pinchworks.programs import solve, with_own
 from pinchworks.ratios import minus
 
 MOST_WATERS = 4
@@ -41,8 +41,8 @@ def mixed(water, ways, fresh_price):
     fresh_at = len(ways) * many
     spare_at = fresh_at + many
     costs += [0 for _ in sinks + sources]
-    basis = list(range(fresh_at, len(costs)))
-    cost, amounts, prices = solve(rows_of(water, ways, basis), costs, basis)
+    rows, basis = rows_of(water, ways)
+    cost, amounts, prices = solve(rows, costs, basis)
     table = tuple([tuple(amounts[at * many:(at + 1) * many]) for at in range(len(ways))])
     # The worth of water for a sink is the price of fresh water less what fresh water costs too much there.
     of_sinks = tuple([minus((fresh_price, 1), price) for price in prices[fresh_at:spare_at]])
@@ -51,8 +51,8 @@ def mixed(water, ways, fresh_price):
     return (cost, table, tuple(amounts[fresh_at:spare_at]), (of_sinks, of_dirts, of_sources))
 
 
-def rows_of(water, ways, basis):
-    """Return the equations of the flows of all sinks, then of their dirt, then of the flows of all sources."""
+def rows_of(water, ways):
+    """Return the rows of the flows of all sinks, then of their dirt, then of the flows of all sources, and a basis."""
     sources, sinks = water
     rows, sums = [], []
     for sink, (flow, _) in enumerate(sinks):
@@ -64,5 +64,5 @@ def rows_of(water, ways, basis):
     for source, (flow, _) in enumerate(sources):
         rows.append([1 if own == source else 0 for own, _, _ in ways for _ in sinks])
         sums.append(flow)
-    # Each equation has an amount of its own: fresh water, room for dirt, and what a source keeps.
-    return [row + [1 if column == basis[at] else 0 for column in basis] + [sums[at]] for at, row in enumerate(rows)]
+    # The amounts of their own are fresh water, room for dirt, and what a source keeps.
+    return with_own(rows, sums)

@@ -30,6 +30,16 @@ def solve(rows, costs, basis):
     return (ratio(-table[-1][-1], bottom), amounts, spare)
 
 
+def with_own(rows, sums):
+    """Return the pair (rows, basis) where each row has an amount of its own behind all others, and then its sum."""
+    first = len(rows[0])
+    basis = list(range(first, first + len(rows)))
+    found = []
+    for own, row, whole in zip(basis, rows, sums):
+        found.append(row + [1 if column == own else 0 for column in basis] + [whole])
+    return (found, basis)
+
+
 def first_table(rows, costs, basis):
     """Return the rows and below them the row of spare prices, which ends with the cost, made negative."""
     prices = list(costs) + [0]

@@ -24,6 +24,11 @@ def is_ratio_row(value, many):
     return is_row(value, many, many) and all([is_ratio(part) for part in value])
 
 
+def is_amount_row(value, many):
+    """Return whether a value is a tuple of so many ratios from 0 on."""
+    return is_ratio_row(value, many) and all([top >= 0 for top, _ in value])
+
+
 def is_apart(upper, lower, gap):
     """Return whether one ratio less another is at least the integer gap."""
     return upper[0] * lower[1] - lower[0] * upper[1] >= gap * upper[1] * lower[1]

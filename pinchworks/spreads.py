@@ -1,7 +1,6 @@
 """Rates that vary: the greatest least heating that they may bring about."""
 
-from pinchworks.bodies import bodies_of
-from pinchworks.cascades import heating_of
+from pinchworks.bodies import bodies_of, heating_of
 from pinchworks.checks import check_problem, is_integer, is_row, is_within
 from pinchworks.errors import BadSpreads
 

@@ -1,9 +1,8 @@
 """Heat stored from period to period: the least heating of all, papers of it, and the heating gap by gap."""
 
-from pinchworks.bodies import bodies_of, heat_above, lack_above, whole_heat
-from pinchworks.cascades import edges_of, heating_of
-from pinchworks.checks import MOST_GAP, check_flag, check_problem, is_problem, is_row, is_threshold, is_within
-from pinchworks.errors import BadGap, BadPeriods
+from pinchworks.bodies import bodies_of, edges_of, heat_above, heating_of, lack_above, outside_with
+from pinchworks.checks import check_flag, check_gap, check_problem, is_problem, is_row, is_threshold
+from pinchworks.errors import BadPeriods
 
 MOST_PERIODS = 4
 
@@ -12,7 +11,7 @@ def stored_outside(periods, is_round):
     """Return the pair (sum of all heatings, sum of all coolings)."""
     rows = checked_rows(periods, is_round)
     heating, _ = most_lacking(rows, is_round)
-    return (heating, heating + sum([whole_heat(body) for bodies in rows for body in bodies]))
+    return outside_with(heating, [body for bodies in rows for body in bodies])
 
 
 def stored_paper(periods, is_round):
@@ -36,8 +35,7 @@ def shows_stored(periods, is_round, value):
 def gap_curve(problem, most):
     """Return the least heatings with the gaps from 0 to the greatest one."""
     check_problem(problem)
-    if not is_within(most, 0, MOST_GAP):
-        raise BadGap(f"a gap is an integer from 0 to {MOST_GAP}")
+    check_gap(most)
     streams, boxes, _ = problem
     return tuple([heating_of(bodies_of((streams, boxes, gap))) for gap in range(most + 1)])
 

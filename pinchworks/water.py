@@ -2,7 +2,7 @@
 
 from pinchworks.checks import is_row
 from pinchworks.mixing import check_water, mixed
-from pinchworks.ratios import NOTHING, is_at_most, is_ratio_row, plus, times, total
+from pinchworks.ratios import is_amount_row, is_at_most, is_ratio_row, plus, times, total
 
 
 def least_fresh(water):
@@ -29,7 +29,7 @@ def shows_plan(water, value):
     if not is_row(value, 2, 2) or not is_row(value[0], len(sources), len(sources)):
         return False
     table, fresh = value
-    if not all([is_flow_row(row, len(sinks)) for row in table]) or not is_flow_row(fresh, len(sinks)):
+    if not all([is_amount_row(row, len(sinks)) for row in table]) or not is_amount_row(fresh, len(sinks)):
         return False
     for (flow, _), row in zip(sources, table):
         if not is_at_most(total(row), (flow, 1)):
@@ -50,7 +50,7 @@ def shows_water(water, value):
     of_sinks, of_dirts, of_sources = value
     if not is_ratio_row(of_sinks, len(sinks)):
         return False
-    if not is_flow_row(of_dirts, len(sinks)) or not is_flow_row(of_sources, len(sources)):
+    if not is_amount_row(of_dirts, len(sinks)) or not is_amount_row(of_sources, len(sources)):
         return False
     for worth, of_dirt in zip(of_sinks, of_dirts):
         limits = [plus(times(of_dirt, dirt), own) for (_, dirt), own in zip(sources, of_sources)]
@@ -63,11 +63,6 @@ def fresh_mixed(water):
     """Return the quadruple (least sum of fresh flows, table, fresh, paper)."""
     ways = [(source, dirt, 0) for source, (_, dirt) in enumerate(water[0])]
     return mixed(water, ways, 1)
-
-
-def is_flow_row(value, many):
-    """Return whether a value is a tuple of so many ratios from 0 on."""
-    return is_ratio_row(value, many) and all([is_at_most(NOTHING, flow) for flow in value])
 
 
 def worth_of(water, paper):

@@ -196,6 +196,118 @@ def engine_faults():
     return found + [(True, False, 50, 10), (1, False, 50, 10), (300, 250, 2, True), (300, 250, 1, 1), (300, 250, 1, 0)]
 
 
+JOB = ((180, 60, 2), 3, 7)
+
+
+def job_faults():
+    """Return the pairs (value, error) of values that are no jobs."""
+    found = []
+    for value in JUNK:
+        is_row = isinstance(value, tuple) and 1 <= len(value) <= 6
+        found.append((value, errors.BadJobs(0 if is_row else None)))
+        found.append(((JOB, JOB, value, None), errors.BadJobs(2)))
+    for value in [[JOB], {0: JOB}, (JOB,) * 7, (None,) * 7]:
+        found.append((value, errors.BadJobs(None)))
+    bad = [(stream, 3, 7) for stream in BAD_STREAMS]
+    bad += [(STREAM, 7, 7), (STREAM, 7, 3), (STREAM, -1, 7), (STREAM, 3, 51), (STREAM, 50, 51), (STREAM, 51, 52)]
+    bad += [(STREAM, 3), (STREAM, 3, 7, 7), [STREAM, 3, 7], {STREAM: 3}, (3, 7, STREAM), STREAM, (STREAM, 0, True)]
+    bad += [(STREAM, False, 7), (STREAM, False, True), (STREAM, 0, 0), (STREAM, 0, False), (STREAM, -2, -1)]
+    for value in (None, True, False, "3", "", (), (3,), [3], {}, {3: 3}):
+        bad += [(STREAM, value, 7), (STREAM, 3, value), (STREAM, value, value)]
+    for value in bad:
+        found.append(((value,), errors.BadJobs(0)))
+        found.append(((JOB, value, value), errors.BadJobs(1)))
+        found.append(((JOB,) * 5 + (value,), errors.BadJobs(5)))
+    return found
+
+
+BAD_NAMES = [
+    None, True, False, 0, 1, -1, 10 ** 30, "", "A", "Ab", "aB", "abcdefghi", "a" * 100, "a1", "1", "a b", " a", "a ", "a\n",
+    "\n", "a_b", "a-b", "a.", "\u00e4", "\u0430", "\uff41", "a\u0301", "\u00aa", (), ("a",), ["a"], [], {}, {"a": 1},
+    (None,), ("a", "b"), ["a", "b"], {"a": "b"},
+]
+
+GOOD_NAMES = ["a", "z", "ab", "zz", "abcdefgh", "zzzzzzzz", "none", "true", "stream", "qwertyui"]
+
+
+def structure_faults():
+    """Return the pairs (value, error) of values that are no structure for the problem of `NETWORKED`."""
+    found = []
+    for value in JUNK:
+        is_row = isinstance(value, tuple) and len(value) <= 10
+        if value not in ((), ((0, 1),)) or not isinstance(value, tuple):
+            found.append((value, errors.BadStructure(0 if is_row else None)))
+    for value in [[(0, 1)], {0: 1}, ((0, 1),) * 11, (None,) * 11]:
+        found.append((value, errors.BadStructure(None)))
+    for value in [
+        None, True, 0, "ab", (), (0,), (0, 1, 60), [0, 1], {0: 1}, (-1, -1), (1, 0), (0, 0), (1, 1), (0, 2), (3, 1), (0, 3),
+        (-2, 1), (0, -2), (False, 1), (0, True), (False, True), ("0", 1), (0, "1"), (0, None), (None, 1), (0, (1,)), ((0, 1),),
+        ([0], {}), (-1, True), (-1, 0), (1, -1), (10 ** 30, 1), (0, 10 ** 30), (-1, None), (None, -1),
+    ]:
+        found.append(((value,), errors.BadStructure(0)))
+        found.append((((0, 1), (-1, 1), value, value), errors.BadStructure(2)))
+        found.append((((0, 1),) * 9 + (value,), errors.BadStructure(9)))
+    return found
+
+
+def swing_faults():
+    """Return values that are no swings for the streams (180, 60, 2), (20, 100, 3), (150, 148, 1)."""
+    found = [value for value in JUNK if value != (0, 1, 0)]
+    for at, most in enumerate((50, 50, 1)):
+        for value in (None, True, False, -1, most + 1, 51, 10 ** 30, "0", "", (), (0,), [0], {}, {0: 0}):
+            found.append((0, 0, 0)[:at] + (value,) + (0, 0, 0)[at + 1:])
+    return found + [[0, 0, 0], (0, 0), (0, 0, 0, 0), {0: 0, 1: 0, 2: 0}, (0, 0, 2), (51, 51, 2), (119, 0, 0), (0, 79, 0)]
+
+
+def owner_faults():
+    """Return values that are no owners for the problem of `BARRABLE`: two streams and two boxes."""
+    found = [value for value in JUNK if value != (0, 1, 0, 1)]
+    for at in range(4):
+        for value in (None, True, False, -1, 4, 10 ** 30, "0", "", (), (0,), [0], {}, {0: 0}):
+            found.append((0, 1, 2, 3)[:at] + (value,) + (0, 1, 2, 3)[at + 1:])
+    return found + [[0, 1, 2, 3], (0, 1, 2), (0, 1, 2, 3, 0), {0: 0, 1: 1, 2: 2, 3: 3}, "0123", (1, 2, 3, 4)]
+
+
+COLUMN = (120, 100, 10)
+
+
+def column_faults():
+    """Return the pairs (value, error) of values that are no columns."""
+    found = []
+    for value in JUNK:
+        is_row = isinstance(value, tuple) and 1 <= len(value) <= 2
+        found.append((value, errors.BadColumns(0 if is_row else None)))
+        found.append(((COLUMN, value), errors.BadColumns(1)))
+        found.append(((value, value), errors.BadColumns(0)))
+    for value in [COLUMN, [COLUMN], {0: COLUMN}, (COLUMN,) * 3, (None,) * 3]:
+        found.append((value, errors.BadColumns(None)))
+    bad = [(100, 100, 10), (100, 120, 10), (1001, 100, 10), (120, -1, 10), (120, 100, 0), (120, 100, -10), (120, 100, 10001)]
+    bad += [(120, 100), (120, 100, 10, 10), [120, 100, 10], {120: 100}, (True, False, 10), (1, False, 10), (120, 100, True)]
+    for at in range(3):
+        for value in (None, True, False, "100", "", (), (100,), [100], {}, {100: 100}):
+            bad.append(COLUMN[:at] + (value,) + COLUMN[at + 1:])
+    for value in bad:
+        found.append(((value,), errors.BadColumns(0)))
+        found.append(((COLUMN, value), errors.BadColumns(1)))
+    return found
+
+
+def mains_faults():
+    """Return values that are no mains."""
+    good = ((), (0,), (1,), (1, 2), (0, 1), (1, 2, 3), (1, 2, 3, 4), (1, 2, 3, 4, 5))
+    found = [value for value in JUNK if repr(value) not in [repr(one) for one in good]]
+    found += [(1, 2, 3, 4, 5, 6), (2, 1), (1, 1), (0, 5, 5), (1, 3, 2), (-1,), (1001,), (5, 1001), (-1, 5), (10 ** 30,)]
+    found += [(1, True), (True, 2), (False,), (0, None), ("5",), ((5,),), (5, (6,)), [5, 6], {5: 6}, (5, [6]), (5, {})]
+    return found
+
+
+BAD_MATCHES = [
+    (value, 1) for value in JUNK + [-1, 1, 3, 4] if not (value == 0 and not isinstance(value, bool)) and value != 2
+] + [
+    (0, value) for value in JUNK + [-1, 0, 2, 3, 4] if not (value == 1 and not isinstance(value, bool))
+] + [(1, 0), (1, 1), (0, 0), (0, 2), (None, None), (True, True), (False, True), (0, True), (False, 1)]
+
+
 FIELDS = ("index", "line", "place", "most")
 
 

@@ -83,6 +83,52 @@ raises InvalidText(1, 3)
 >>> engine = (300, 250, 50, 10)
 >>> [engine_effect(problem, engine), pump_effect(problem, engine), placing(problem, engine), best_place(problem, -5, 0, 30)]
 [(40, 30), (-10, 0), 'between', (0, 15)]
+
+>>> from pinchworks.jobs import busiest, idle, minutes, with_store
+>>> jobs = (((100, 50, 1), 0, 1), ((40, 90, 1), 1, 2))
+>>> [minutes(jobs, 0), with_store(jobs, 0), busiest(jobs, 0), idle(jobs, 0)]
+[((0, 50), (50, 0)), (0, 0), (1, 50), ()]
+
+>>> from pinchworks.plant import Plant
+>>> plant = Plant(10)
+>>> first = [plant.put('b', (20, 100, 3)), plant.put('a', (180, 60, 2))]
+>>> [first, plant.names(), plant.outside(), plant.saved(('a',)), plant.undo(), plant.outside()]
+[[None, None], ('a', 'b'), (0, 0), 240, None, (240, 0)]
+
+>>> from pinchworks.structures import best_loads, weak_corner
+>>> problem = (((180, 60, 2), (20, 100, 3)), (), 10)
+>>> [best_loads(problem, ((0, 1),)), best_loads(problem, ()), weak_corner(problem, ((0, 1),), (1, 0)), weak_corner(problem, ((0, 1), (0, -1)), (0, 0))]
+[((0, 1), ((240, 1),)), None, (179, 20), None]
+
+>>> from pinchworks.owners import heat_shares, shows_shares
+>>> problem = (((180, 60, 2), (20, 100, 3)), ((100, -40),), 10)
+>>> [heat_shares(problem, (0, 0, 0)), shows_shares(problem, (0, 1, 1), heat_shares(problem, (0, 1, 1)))]
+[(40,), True]
+
+>>> from pinchworks.sites import best_shifts, site_outside
+>>> problem = (((180, 60, 2), (20, 100, 3)), ((100, -40),), 10)
+>>> [best_shifts((problem[0], (), 10), ((120, 100, 10),), -5, 5), site_outside((problem,), ())]
+[((-5,), 0), (40, 0)]
+
+>>> from pinchworks.rests import best_match, free_gap, penalty, rest_after
+>>> problem = (((180, 60, 2), (20, 100, 3)), (), 10)
+>>> [rest_after(problem, 0, 1, 120), penalty(problem, 0, 1, 120), best_match(problem), free_gap(problem)]
+[(((120, 60, 2), (20, 60, 3)), (), 10), 0, (0, 1, 240), 40]
+
+>>> from pinchworks.changes import cut_at, mirrored, moved_by
+>>> problem = (((180, 60, 2), (20, 100, 3)), ((100, -40),), 10)
+>>> [cut_at(problem, 50), mirrored(((), ((100, -40),), 10)), moved_by(((), ((100, -40),), 10), -20)]
+[((((180, 60, 2), (50, 100, 3)), ((100, -40),), 10), (((20, 50, 3),), (), 10)), ((), ((900, 40),), 10), ((), ((80, -40),), 10)]
+
+>>> from pinchworks.crossings import crossing
+>>> problem = (((180, 60, 2), (20, 100, 3)), (), 10)
+>>> [crossing(problem, ((0, 1, 240),), 50), crossing(problem, ((-1, 1, 240), (0, -1, 240)), 50)]
+[((90, 1), (0, 1), (0, 1)), ((0, 1), (90, 1), (240, 1))]
+
+>>> from pinchworks.targets import most_at, most_from, unit_target
+>>> problem = (((180, 60, 2), (20, 100, 3)), ((100, -40),), 10)
+>>> [most_at(problem, 180), most_at(problem, 30), most_from(problem, 20), unit_target((problem[0], (), 10), 50)]
+[40, 0, 0, (2, 1)]
 """
 
 

@@ -53,6 +53,20 @@ INTERFACE = {
         best_place(problem, heat, low, high)
     """,
     "cheapest": "cheapest_passing(problem, prices) shows_cheapest(problem, prices, value)",
+    "jobs": "minutes(jobs, gap) busiest(jobs, gap) with_store(jobs, gap) idle(jobs, gap)",
+    "plant": "Plant(gap)",
+    "structures": """
+        best_loads(problem, structure) load_paper(problem, structure) shows_loads(problem, structure, value)
+        shows_paper(problem, structure, value) weak_corner(problem, structure, swings)
+    """,
+    "owners": "heat_shares(problem, owners) shows_shares(problem, owners, value)",
+    "sites": "best_shifts(problem, columns, low, high) site_outside(problems, mains)",
+    "rests": """
+        rest_after(problem, hot, cold, load) penalty(problem, hot, cold, load) free_gap(problem) best_match(problem)
+    """,
+    "changes": "mirrored(problem) moved_by(problem, degrees) joined(one, other) cut_at(problem, level)",
+    "crossings": "crossing(problem, network, level)",
+    "targets": "most_at(problem, temperature) most_from(problem, temperature) unit_target(problem, level)",
 }
 
 
